@@ -1,0 +1,28 @@
+import importlib
+import inspect
+import unittest
+
+FUNCTIONS = {
+    "words": {"is_word": ["text"], "is_name": ["text"]},
+    "games": {"look_game": ["game"]},
+    "sums": {
+        "nothing": ["game"],
+        "added": ["one", "other"],
+        "in_order": ["sums"],
+        "moves": ["game", "counts"],
+        "longest": ["game", "counts"],
+    },
+}
+
+
+class Interface(unittest.TestCase):
+    def test_names_and_arguments(self):
+        for module, functions in FUNCTIONS.items():
+            for name, arguments in functions.items():
+                with self.subTest(module=module, name=name):
+                    told = getattr(importlib.import_module("lastloser." + module), name)
+                    self.assertEqual(list(inspect.signature(told).parameters), arguments)
+
+
+if __name__ == "__main__":
+    unittest.main()
