@@ -12,6 +12,14 @@ FUNCTIONS = {
         "moves": ["game", "counts"],
         "longest": ["game", "counts"],
     },
+    "reader": {"read": ["text"]},
+    "writer": {"shown": ["game"]},
+    "sumtexts": {"read_sum": ["game", "text"], "show_sum": ["game", "counts"]},
+    "walks": {
+        "reached": ["game", "counts"],
+        "loses": ["game", "counts", "last"],
+        "walked": ["game", "counts", "last"],
+    },
 }
 
 
