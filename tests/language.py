@@ -2,7 +2,8 @@
 
 `faults(files)` takes a dict from file names within the package to their sources and tells
 a list of (rule, file, line). Where a rule lets something in rare places alone, this is
-stricter: what the package doesn't need is not let at all (sets, `%` in texts, annotations).
+stricter: what the package doesn't need is not let at all (`%` in texts, annotations, sets but in `sorted`
+and `len`).
 """
 
 import ast
@@ -235,10 +236,15 @@ class Look:
             self.tell("L17", node)
         elif node.id in BUILTINS and node.id not in FUNCTIONS + ERRORS:
             self.tell("L8", node)
-        elif node.id in ("set", "frozenset"):
+        elif node.id in ("set", "frozenset") and not self.is_spent_set(node):
             self.tell("L24", node)
         elif node.id in FUNCTIONS and not self.is_used_as_called(node):
             self.tell("L22", node)
+
+    def is_spent_set(self, node):
+        parent = self.parents[node]
+        around = self.parents[parent]
+        return called(parent) == "set" and called(around) in ("sorted", "len") and around.keywords == []
 
     def is_used_as_called(self, node):
         parent = self.parents[node]

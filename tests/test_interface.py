@@ -20,6 +20,10 @@ FUNCTIONS = {
         "loses": ["game", "counts", "last"],
         "walked": ["game", "counts", "last"],
     },
+    "tables": {"look_table": ["table"]},
+    "things": {"thing_of": ["table", "counts"], "put": ["table", "x", "y"]},
+    "tabletexts": {"show_table": ["table"], "read_table": ["text"]},
+    "pairs": {"pairs": ["game", "table"]},
 }
 
 

@@ -27,7 +27,9 @@ NO_CODE = {
     "L21": ("def f(n: int):\n    pass", "def f() -> int:\n    pass"),
     "L22": ("def f(d):\n    g = len\n    return g(d)", "def f(d):\n    return int(d, base=3)"),
     "L23": ("def f(d):\n    x = d.items()\n    return x", "def f(d):\n    return zip(d, d)"),
-    "L24": ("def f():\n    x = {1, 2}\n    return x", "def f(d):\n    return set(d)"),
+    "L24": ("def f():\n    x = {1, 2}\n    return x", "def f(d):\n    return set(d)",
+            "def f(d):\n    return sorted(set(d), key=len)", "def f(d):\n    return list(set(d))",
+            "def f(d):\n    return len(frozenset(d))", "def f(d):\n    return sorted(set)"),
     "L25": ("def f(d):\n    d.sort()", "def f(d):\n    return d.isidentifier()", "def f(d):\n    return d.append"),
     "L27": ("def f(n):\n    return 2 ** len(n)", "def f(n):\n    return '%'"),
 }
@@ -54,6 +56,10 @@ class Language(unittest.TestCase):
                 with self.subTest(source, rule=rule):
                     found = language.faults({"__init__.py": "", "a.py": source})
                     self.assertIn(rule, [fault[0] for fault in found])
+
+    def test_sets_that_are_let(self):
+        source = "def f(d):\n    return sorted(set(d)) + [len(set(d))]\n"
+        self.assertEqual(language.faults({"__init__.py": "", "a.py": source}), [])
 
     def test_files_that_draw_from_one_another_are_found(self):
         one = "from lastloser.b import g\n\n\ndef f():\n    return g()\n"

@@ -1,0 +1,112 @@
+"""Games and tables that several tests look at, and plain ways to what is told of them."""
+
+import itertools
+
+from lastloser.reader import read
+from lastloser.sums import moves
+
+NIM = read("row a to 3\ntake 1 none one\ntake 2 none one\ntake 3 none one")
+STILL = read("heap e :\nheap s : . | 2*e\nheap t : e s | 2*s")
+EMPTY = ()
+GREAT = 10 ** 30
+
+
+def all_sums(heaps, most):
+    found = [counts for counts in itertools.product(range(most + 1), repeat=heaps) if sum(counts) <= most]
+    return sorted(found, key=lambda counts: (sum(counts), tuple(-many for many in counts)))
+
+
+def made_table(heaps, start, step, loses, turned=False):
+    """The table of all that comes from start; turned, its things but 0 are numbered the other way round."""
+    found = [start]
+    for here in found:
+        for heap in range(heaps):
+            if step(here, heap) not in found:
+                found.append(step(here, heap))
+    if turned:
+        found = found[:1] + found[:0:-1]
+    steps = tuple(tuple(found.index(step(here, heap)) for heap in range(heaps)) for here in found)
+    return steps, tuple(x for x, here in enumerate(found) if loses(here))
+
+
+def nim_table(last, turned=False):
+    """Of a1, a2, a3: the numbers put together by ^, and whether a2 or a3 is there, which matters to loses alone."""
+    def step(here, heap):
+        return here[0] ^ (heap + 1), last == "loses" and (here[1] or heap > 0)
+
+    def is_losing(here):
+        return here[0] == (0 if last == "wins" or here[1] else 1)
+
+    return made_table(3, (0, False), step, is_losing, turned)
+
+
+def counted_table(bounds, losing=(), turned=False):
+    """For each heap how many of it are there, up to a tail, then round and round a period."""
+    def step(here, heap):
+        tail, period = bounds[heap]
+        many = here[heap] + 1
+        return here[:heap] + (many if many < tail + period else tail,) + here[heap + 1:]
+
+    return made_table(len(bounds), (0,) * len(bounds), step, lambda here: here in losing, turned)
+
+
+def single_moves(tail, period, heaps):
+    """A game of one heap without options, e, and heaps of one move each; and a table's steps for it.
+
+    heaps has for each (by, options): options the numbers of e to which it may be moved, by how many e it counts
+    by the table. The thing 0 .. n - 1 tells that many e, an even number of moves; n .. 2 * n - 1 an odd one.
+    """
+    size = tail + period
+    names = "abcdfghijk"
+
+    def counted(many):
+        return many if many < size else tail + (many - tail) % period
+
+    game = [("e", ())]
+    for name, (by, options) in zip(names, heaps):
+        game.append((name, tuple((many,) + (0,) * len(heaps) for many in options)))
+    steps = []
+    for odd in (False, True):
+        for many in range(size):
+            row = [counted(many + 1) + odd * size]
+            row += [counted(many + by) + (not odd) * size for by, options in heaps]
+            steps.append(tuple(row))
+    return tuple(game), tuple(steps)
+
+
+def single_losing(steps, last):
+    half = len(steps) // 2
+    return tuple(range(half)) if last == "wins" else tuple(range(half, 2 * half))
+
+
+EXACTLY_400 = (5, 5, ((0, (3,)), (0, (4,)), (2, (3,)), (0, (2,)), (2, (0,))))
+EXACTLY_401 = (2, 8, ((2, (0, 3)), (2, (1,)), (1, (2,)), (0, (4,)), (1, (4,))))
+
+
+def plain_thing(table, counts):
+    """One step at a time, from the last heap on."""
+    thing = 0
+    for heap in reversed(range(len(counts))):
+        for again in range(counts[heap]):
+            thing = table[0][thing][heap]
+    return thing
+
+
+def plain_pair(game, table, counts):
+    leads = {plain_thing(table, later) for h, k, later in moves(game, counts)}
+    return plain_thing(table, counts), tuple(sorted(leads))
+
+
+def plain_pairs(game, table, most):
+    """All pairs of sums of at most so many heaps, with their first sums, by looking at every sum."""
+    found = {}
+    for counts in all_sums(len(game), most):
+        found.setdefault(plain_pair(game, table, counts), counts)
+    return [(counts, pair) for pair, counts in found.items()]
+
+
+def plainly_holds(game, table, counts, last):
+    thing, leads = plain_pair(game, table, counts)
+    if not moves(game, counts):
+        return (thing in table[1]) == (last == "wins")
+    return (thing in table[1]) == (not any(lead in table[1] for lead in leads))
