@@ -29,15 +29,15 @@ def made_table(heaps, start, step, loses, turned=False):
     return steps, tuple(x for x, here in enumerate(found) if loses(here))
 
 
-def nim_table(last, turned=False):
-    """Of a1, a2, a3: the numbers put together by ^, and whether a2 or a3 is there, which matters to loses alone."""
+def nim_table(last, turned=False, numbers=(1, 2, 3)):
+    """The heaps' numbers put together by ^, and whether one above 1 is there, which matters to loses alone."""
     def step(here, heap):
-        return here[0] ^ (heap + 1), last == "loses" and (here[1] or heap > 0)
+        return here[0] ^ numbers[heap], last == "loses" and (here[1] or numbers[heap] > 1)
 
     def is_losing(here):
         return here[0] == (0 if last == "wins" or here[1] else 1)
 
-    return made_table(3, (0, False), step, is_losing, turned)
+    return made_table(len(numbers), (0, False), step, is_losing, turned)
 
 
 def counted_table(bounds, losing=(), turned=False):
@@ -75,6 +75,7 @@ def single_moves(tail, period, heaps):
 
 
 def single_losing(steps, last):
+    """The losing things that tell of every sum of such a game who wins."""
     half = len(steps) // 2
     return tuple(range(half)) if last == "wins" else tuple(range(half, 2 * half))
 

@@ -24,6 +24,10 @@ FUNCTIONS = {
     "things": {"thing_of": ["table", "counts"], "put": ["table", "x", "y"]},
     "tabletexts": {"show_table": ["table"], "read_table": ["text"]},
     "pairs": {"pairs": ["game", "table"]},
+    "checker": {"let_by": ["game", "last", "table"]},
+    "papers": {"paper_holds": ["game", "last", "table", "paper"], "paper_of": ["game", "last", "table"]},
+    "firsts": {"firsts": ["table"]},
+    "parting": {"parting": ["table", "x", "y"]},
 }
 
 
