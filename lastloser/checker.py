@@ -14,12 +14,19 @@ def holds(last, losing, pair):
     return (pair[0] in losing) != any_losing(pair[1], losing)
 
 
-def let_by(game, last, table):
+def first_wrong(last, losing, found):
     # Where a table holds hangs on the pair: so the first sum at which it doesn't is the first one of its pair.
+    for counts, pair in found:
+        if not holds(last, losing, pair):
+            return counts
+    return None
+
+
+def let_by(game, last, table):
     found = first_pairs(game, table, MOST_PAIRS + 1)
-    for counts, pair in found[:MOST_PAIRS]:
-        if not holds(last, table[1], pair):
-            raise Wrong(counts)
+    wrong = first_wrong(last, table[1], found[:MOST_PAIRS])
+    if wrong is not None:
+        raise Wrong(wrong)
     if len(found) > MOST_PAIRS:
         raise TooMany()
     return True

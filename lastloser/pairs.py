@@ -28,7 +28,7 @@ def put_options(game, table):
     return told
 
 
-def first_pairs(game, table, most):
+def first_pairs(game, table, most=None):
     steps = table[0]
     by_options = put_options(game, table)
 

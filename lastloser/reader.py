@@ -1,10 +1,11 @@
 """Games read from texts, and what is refused (points 9 to 11)."""
 
 from lastloser.errors import TooMany
+from lastloser.places import places_of
 from lastloser.rowforms import rows_of
 from lastloser.rules import heap_name, heap_names, rule_heaps, rule_options, rules_of, sizes_of
 from lastloser.sums import in_order
-from lastloser.sumtexts import names_of, places_of, refuse_again, refuse_unknown, sum_of
+from lastloser.sumtexts import names_of, refuse_again, refuse_unknown, sum_of
 
 MOST_HEAPS = 12
 MOST_OPTIONS = 60

@@ -45,3 +45,13 @@ def longest_by(plays, counts):
 
 def longest(game, counts):
     return longest_by(heap_plays(game), counts)
+
+
+def sums_of(heaps, many):
+    # All sums of so many heaps in all, in order.
+    if heaps == 0:
+        return [()] if many == 0 else []
+    told = []
+    for first in range(many, -1, -1):
+        told.extend([(first,) + rest for rest in sums_of(heaps - 1, many - first)])
+    return told

@@ -1,6 +1,7 @@
 """Sums as texts (point 11). Terms are a list of (name, how many), as they stand in a SUM."""
 
 from lastloser.errors import NoName, NoText, Twice
+from lastloser.places import places_of
 from lastloser.words import is_name
 
 DIGITS = "0123456789"
@@ -49,13 +50,6 @@ def refuse_unknown(names, known):
 
 def names_of(terms):
     return [term[0] for term in terms]
-
-
-def places_of(names):
-    places = {}
-    for number, name in enumerate(names):
-        places[name] = number
-    return places
 
 
 def sum_of(terms, places):

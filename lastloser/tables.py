@@ -29,14 +29,21 @@ def has_form(value):
     return are_things(value[1], len(value[0])) and is_rising(value[1])
 
 
-def look_commute(steps):
+def first_apart(steps):
     # Where h and k go apart, so do k and h: the first, as Python sorts, has the lesser heap ahead.
     heaps = len(steps[0])
     for x, row in enumerate(steps):
         for h in range(heaps):
             for k in range(h + 1, heaps):
                 if steps[row[h]][k] != steps[row[k]][h]:
-                    raise NoTable("commute", (x, h, k))
+                    return (x, h, k)
+    return None
+
+
+def look_commute(steps):
+    apart = first_apart(steps)
+    if apart is not None:
+        raise NoTable("commute", apart)
 
 
 def look_reach(steps):

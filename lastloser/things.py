@@ -20,17 +20,22 @@ def thing_of(table, counts):
     return thing
 
 
-def put_to(steps, x):
-    # From each thing y to x and y put together: where y goes by a heap's step, both do by the same.
-    told = {0: x}
+def carried(steps, others, start):
+    # From each thing to where a sum of it comes from start by the others' steps: where the one goes by a heap's step,
+    # the other does by the same. (Which sum is looked at matters only where not all sums of a thing come to one.)
+    told = {0: start}
     waiting = [0]
     while waiting != []:
-        y = waiting.pop()
-        for heap, later in enumerate(steps[y]):
+        thing = waiting.pop()
+        for heap, later in enumerate(steps[thing]):
             if later not in told:
-                told[later] = steps[told[y]][heap]
+                told[later] = others[told[thing]][heap]
                 waiting.append(later)
     return told
+
+
+def put_to(steps, x):
+    return carried(steps, steps, x)
 
 
 def put(table, x, y):

@@ -111,3 +111,61 @@ def plainly_holds(game, table, counts, last):
     if not moves(game, counts):
         return (thing in table[1]) == (last == "wins")
     return (thing in table[1]) == (not any(lead in table[1] for lead in leads))
+
+
+LASTS = ("loses", "wins")
+# Of 2 * n of c beside 2 * m of b (and a not there) who is to move loses where m is above n, not where m is n: so all
+# these sums are of unlike things, and no table tells of every sum who wins, where the last move loses.
+ENDLESS = read("heap a : .\nheap b : . | a\nheap c : . | a 2*b | 3*b")
+# The least tables of these have 12 and 14 things, where the last move loses.
+TWELVE = read("heap a : .\nheap b : . | a\nheap c : b\nheap d : a | b | c | a b")
+FOURTEEN = read("heap a : .\nheap b : . | a\nheap c : b\nheap d : . | c")
+
+
+def plain_loser(game, last):
+    """Tells of a sum whether it loses, straight by point 13."""
+    known = {}
+
+    def loses(counts):
+        if counts not in known:
+            laters = [later for h, k, later in moves(game, counts)]
+            known[counts] = not any([loses(later) for later in laters]) if laters else last == "wins"
+        return known[counts]
+
+    return loses
+
+
+def together(one, other):
+    return tuple(here + there for here, there in zip(one, other))
+
+
+def small_games(heaps, most=2, play=4):
+    """All games of so many heaps, options of at most so many heaps, no longest play above play."""
+    def options_at(heap, plays):
+        found = []
+        for counts in all_sums(heap, most):
+            longest = 1 + sum(many * other for many, other in zip(counts, plays))
+            if longest <= play:
+                found.append((counts + (0,) * (heaps - heap), longest))
+        return found
+
+    def from_heap(heap, game, plays):
+        if heap == heaps:
+            yield game
+            return
+        options = options_at(heap, plays)
+        for many in range(len(options) + 1):
+            for some in itertools.combinations(options, many):
+                longest = max([play for option, play in some], default=0)
+                named = ("abcd"[heap], tuple(option for option, play in some))
+                yield from from_heap(heap + 1, game + (named,), plays + (longest,))
+
+    return from_heap(0, (), ())
+
+
+def some_games(heaps, each):
+    return list(itertools.islice(small_games(heaps), 0, None, each))
+
+
+GAMES = ([EMPTY] + some_games(1, 1) + some_games(2, 1) + some_games(3, 19) + some_games(4, 4999)
+         + [NIM, STILL, TWELVE, FOURTEEN])

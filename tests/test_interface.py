@@ -28,6 +28,10 @@ FUNCTIONS = {
     "papers": {"paper_holds": ["game", "last", "table", "paper"], "paper_of": ["game", "last", "table"]},
     "firsts": {"firsts": ["table"]},
     "parting": {"parting": ["table", "x", "y"]},
+    "least": {"least": ["table"]},
+    "leading": {"led": ["one", "other"]},
+    "made": {"made": ["game", "last", "most"]},
+    "playing": {"winning": ["game", "table", "counts"]},
 }
 
 
