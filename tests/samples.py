@@ -84,6 +84,15 @@ EXACTLY_400 = (5, 5, ((0, (3,)), (0, (4,)), (2, (3,)), (0, (2,)), (2, (0,))))
 EXACTLY_401 = (2, 8, ((2, (0, 3)), (2, (1,)), (1, (2,)), (0, (4,)), (1, (4,))))
 
 
+def finer(table, tail, period, counted, turned=False):
+    """The table with a counter of one heap beside."""
+    def step(here, heap):
+        many = here[1] + (heap == counted)
+        return table[0][here[0]][heap], many if many < tail + period else tail
+
+    return made_table(len(table[0][0]), (0, 0), step, lambda here: here[0] in table[1], turned)
+
+
 def plain_thing(table, counts):
     """One step at a time, from the last heap on."""
     thing = 0
@@ -120,6 +129,11 @@ ENDLESS = read("heap a : .\nheap b : . | a\nheap c : . | a 2*b | 3*b")
 # The least tables of these have 12 and 14 things, where the last move loses.
 TWELVE = read("heap a : .\nheap b : . | a\nheap c : b\nheap d : a | b | c | a b")
 FOURTEEN = read("heap a : .\nheap b : . | a\nheap c : b\nheap d : . | c")
+# Heaps of numbers 1, 2, 4, 8, and eight of number 0: where the last move wins there are more than 400 pairs.
+MANY_PAIRS = read("heap a : .\nheap b : . | a\nheap c : . | a | b | a b\n"
+                  "heap d : . | a | b | c | a b | a c | b c | a b c\n"
+                  "heap e : a\nheap f : b\nheap g : c\nheap h : d\nheap i : a b\nheap j : a c\nheap k : a d\n"
+                  "heap l : b c")
 
 
 def plain_loser(game, last):

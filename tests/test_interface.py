@@ -32,6 +32,11 @@ FUNCTIONS = {
     "leading": {"led": ["one", "other"]},
     "made": {"made": ["game", "last", "most"]},
     "playing": {"winning": ["game", "table", "counts"]},
+    "numbers": {"numbers": ["game"], "number_of": ["game", "counts"], "number_table": ["game"]},
+    "picking": {"picked": ["game", "some"], "picked_table": ["table", "some"]},
+    "joining": {"joined": ["one", "other"]},
+    "joints": {"joint": ["one", "other"], "unlike": ["one", "other"], "settled": ["one", "other"]},
+    "desk": {"answered": ["text", "row"]},
 }
 
 

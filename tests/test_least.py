@@ -8,7 +8,7 @@ from lastloser.parting import parting
 from lastloser.sums import in_order
 from lastloser.tables import look_table
 
-from samples import LASTS, all_sums, counted_table, nim_table, plain_thing, together
+from samples import LASTS, all_sums, counted_table, finer, nim_table, plain_thing, together
 
 RIGHT = ((1, 2, 3), (0, 1, 2), (1, 2), (2, 1), (0, 0), (1,), ())
 BOUNDS = (((2, 3),), ((0, 4),), ((3, 1),), ((0, 2), (1, 2)), ((1, 1), (0, 2), (0, 1)))
@@ -119,25 +119,9 @@ class Least(unittest.TestCase):
                 table = nim_table(last, numbers=numbers)
                 for tail, period, counted in ((0, 3, 0), (3, 2, 0), (4, 1, 0), (5, 1, len(numbers) - 1)):
                     for turned in (False, True):
-                        finer = self.counter_beside(table, tail, period, counted, turned)
-                        self.assertGreater(len(finer[0]), len(table[0]))
-                        self.assertEqual(least(finer), table)
-
-    def counter_beside(self, table, tail, period, counted, turned):
-        found = [(0, 0)]
-
-        def step(here, heap):
-            many = here[1] + (heap == counted)
-            return table[0][here[0]][heap], many if many < tail + period else tail
-
-        for here in found:
-            for heap in range(len(table[0][0])):
-                if step(here, heap) not in found:
-                    found.append(step(here, heap))
-        if turned:
-            found = found[:1] + found[:0:-1]
-        steps = tuple(tuple(found.index(step(here, heap)) for heap in range(len(table[0][0]))) for here in found)
-        return steps, tuple(x for x, here in enumerate(found) if here[0] in table[1])
+                        other = finer(table, tail, period, counted, turned)
+                        self.assertGreater(len(other[0]), len(table[0]))
+                        self.assertEqual(least(other), table)
 
     def test_many_things(self):
         chain = tuple((min(x + 1, 63),) for x in range(64))

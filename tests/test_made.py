@@ -12,8 +12,8 @@ from lastloser.reader import read
 from lastloser.tables import look_table
 from lastloser.walks import loses
 
-from samples import (EMPTY, ENDLESS, FOURTEEN, GAMES, LASTS, NIM, STILL, TWELVE, all_sums, counted_table, nim_table,
-                     plain_loser, plain_thing, some_games, together)
+from samples import (EMPTY, ENDLESS, FOURTEEN, GAMES, LASTS, MANY_PAIRS, NIM, STILL, TWELVE, all_sums, counted_table,
+                     nim_table, plain_loser, plain_thing, some_games, together)
 
 ENDS = read("heap e :\nheap f :")
 
@@ -152,17 +152,11 @@ class Made(unittest.TestCase):
                 self.look(read(text), last, 12)
 
     def test_more_than_400_pairs(self):
-        # Heaps of numbers 1, 2, 4, 8, and eight more, each with one option, that put no other number there.
-        options = ("a", "b", "c", "d", "a b", "a c", "a d", "b c")
-        text = "heap a : .\nheap b : . | a\nheap c : . | a | b | a b\nheap d : "
-        text += " | ".join([".", "a", "b", "c", "a b", "a c", "b c", "a b c"])
-        text += "".join(f"\nheap {name} : {option}" for name, option in zip("efghijkl", options))
-        game = read(text)
-        table = nim_table("wins", numbers=(1, 2, 4, 8, 0, 0, 0, 0, 0, 0, 0, 0))
+        table = nim_table("wins", numbers=(1, 2, 4, 8) + (0,) * 8)
         with self.assertRaises(TooMany):
-            let_by(game, "wins", table)
-        self.assertEqual(made(game, "wins", 16), ("table", table))
-        self.assertEqual(made(game, "wins", 15)[0], "open")
+            let_by(MANY_PAIRS, "wins", table)
+        self.assertEqual(made(MANY_PAIRS, "wins", 16), ("table", table))
+        self.assertEqual(made(MANY_PAIRS, "wins", 15)[0], "open")
 
     def test_the_least_of_those_that_are_let_by(self):
         game = read("row a to 2\ntake 1 none one\ntake 2 none")
